@@ -1,0 +1,1 @@
+"""Tokenfold: nets of tokens."""
