@@ -1,4 +1,8 @@
-"""Nets that several tests use."""
+"""Nets that several tests use, and what they are asked by."""
+
+import copy
+
+from tokenfold.texts import read_net
 
 MILL_TEXT = [
     "-- a mill with two workers",
@@ -21,6 +25,35 @@ MILL = (
         ("rain", "", (), (("grain", 1),)),
     ),
 )
+
+# Two that pass a key: its heaps have an end, and the last firing brings it to one at which nothing can.
+DOOR = read_net([
+    "place idle 1",
+    "place key 1",
+    "place room 0",
+    "place lost 0",
+    "fire enter as go : idle + key -> room",
+    "fire leave : room -> idle + key",
+    "fire lose as oh : key -> lost",
+])
+DOOR_HEAPS = [(1, 1, 0, 0), (0, 0, 1, 0), (1, 0, 0, 1)]
+DOOR_STEPS = [[("enter", 1), ("lose", 2)], [("leave", 0)], []]
+# A well without an end: of "deep" there is ever more, of "pail" never more than one.
+WELL = read_net([
+    "place pail 1",
+    "place full 0",
+    "place deep 0",
+    "fire draw : pail -> full",
+    "fire pour : full -> pail + deep",
+    "fire drink : 2 deep -> 0",
+])
+# Things of many kinds, none of which is a paper, a stair, a sum.
+STRANGE = [None, True, False, 0, 1, -1, "", "row", "never", (), [], ("row",), ("never",), ["row", []], ("",), (None, None),
+           ("row", [], []), ("never", [], []), ("way", []), (True, []), (("row", []),), [("row", [])], ("Row", []),
+           (["row"], []), ((), ()), ("row", None), ("row", ()), ("row", "row"), ("row", 0), ("row", True),
+           ("never", None), ("never", ()), ("never", ""), ("never", 0), ("row", [None]), ("row", [""]), ("row", [0]),
+           ("row", [[]]), ("row", [("enter",)]), ("row", [True]), ("never", [None]), ("never", [()]), ("never", [[]]),
+           ("never", [""]), ("never", [0])]
 
 # What is no net, with what net_wrong tells of it; each also stands for what callers refuse with NoNet.
 NO_NETS = [
@@ -55,3 +88,33 @@ def is_fresh(tell):
     second = tell()
     first.clear()
     return second == kept and tell() == kept and first is not second
+
+
+def changed(thing):
+    """Changes a told list or dict, whatever is in it."""
+    if isinstance(thing, (list, dict, tuple)):
+        for inner in list(thing.values() if isinstance(thing, dict) else thing):
+            changed(inner)
+    if isinstance(thing, (list, dict)):
+        thing.clear()
+
+
+def is_deeply_fresh(tell):
+    """Whether what was told may be changed, lists within lists and tuples too, and the same is told again."""
+    first = tell()
+    kept = copy.deepcopy(first)
+    changed(first)
+    return tell() == kept
+
+
+def net_by_chance(chance, places=4, firings=5, start=3, count=2, parts=2):
+    """A net of so many places and firings at most, with starts and counts from 0 and 1 to those."""
+    told = tuple([(f"p{k}", chance.randrange(start + 1)) for k in range(chance.randrange(1, places + 1))])
+    fires = []
+    for k in range(chance.randrange(1, firings + 1)):
+        sides = []
+        for _ in range(2):
+            numbers = sorted(chance.sample(range(len(told)), min(len(told), chance.randrange(parts + 1))))
+            sides.append(tuple([(told[at][0], chance.randrange(1, count + 1)) for at in numbers]))
+        fires.append((f"t{k}", "", *sides))
+    return (told, tuple(fires))

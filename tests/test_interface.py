@@ -6,9 +6,10 @@ import inspect
 import pathlib
 import unittest
 
-from samples import MILL, MILL_TEXT, NO_NETS
-from tokenfold import errors, firing, nets, texts
+from samples import DOOR, MILL, MILL_TEXT, NO_NETS, WELL, changed
+from tokenfold import bounds, cover, errors, firing, nets, plays, reach, texts
 
+# Of each function its arguments' names; those behind a * are handed in by their names alone.
 FUNCTIONS = {
     nets: {"net_wrong": "thing"},
     texts: {"read_net": "text", "printed": "net", "rows_of": "text"},
@@ -17,14 +18,34 @@ FUNCTIONS = {
         "at_once": "net heap bag", "can": "net heap", "words": "net row", "process": "net row", "layers": "net row",
         "swapped": "net row k",
     },
+    reach: {
+        "reach": "net *most", "way": "net heap *most", "way_wrong": "net heap thing", "dead": "net *most",
+        "stirring": "net *most",
+    },
+    cover: {"covered": "net heap *most", "covered_wrong": "net heap thing"},
+    bounds: {
+        "widest": "net *most", "endless": "net *most", "bound": "net place *most", "bound_wrong": "net place thing",
+        "stair_end": "net stair",
+    },
 }
+CLASSES = {
+    plays: {"Play": {"__init__": "net", "fire": "name", "heap": "", "trail": "", "words": "", "back": "", "copy": "",
+                     "net": "", "__eq__": "other", "__len__": ""}},
+}
+DEFAULTS = {"most": 2000}
 HEAP = (3, 2, 0, 0)
 ROW = ["begin", "begin", "end"]
+STAIR = [(["draw"], ["pour", "draw"]), (["pour"], [])]
 CALLS = {
     "net_wrong": [MILL], "read_net": [MILL_TEXT], "printed": [MILL], "rows_of": [MILL_TEXT],
     "heap_wrong": [MILL, HEAP], "start_heap": [MILL], "fired": [MILL, HEAP, "begin"], "gone": [MILL, HEAP, ROW],
     "at_once": [MILL, HEAP, (("begin", 1),)], "can": [MILL, HEAP], "words": [MILL, ROW], "process": [MILL, ROW],
     "layers": [MILL, ROW], "swapped": [MILL, ROW, 0],
+    "reach": [DOOR, 5], "way": [DOOR, (1, 0, 0, 1), 5], "dead": [DOOR, 5], "stirring": [DOOR, 5],
+    "way_wrong": [DOOR, (2, 0, 0, 0), ("never", [(1, 1, 0, 0), (0, 0, 1, 0), (1, 0, 0, 1)])],
+    "covered": [DOOR, (2, 0, 0, 0), 50], "covered_wrong": [WELL, (2, 0, 0), ("never", [(2, 0, 0), (1, 1, 0), (0, 2, 0)])],
+    "widest": [WELL, 50], "endless": [WELL, 50], "bound": [WELL, "pail", 50], "stair_end": [WELL, STAIR],
+    "bound_wrong": [WELL, "pail", ("most", 1, [(["draw"], ["pour", "draw"]), (["pour"], [])], [(0, 1, None), (1, 0, None)])],
 }
 
 
@@ -34,55 +55,73 @@ def functions():
             for name, args in told.items()]
 
 
-def changed(thing):
-    """Changes a told list or dict, whatever is in it."""
-    for inner in list(thing.values() if isinstance(thing, dict) else thing):
-        if isinstance(inner, (list, dict)):
-            changed(inner)
-    if isinstance(thing, (list, dict)):
-        thing.clear()
+def call(function, name, args):
+    """What the function tells of its call, those behind a * handed in by their names."""
+    places = [worth for arg, worth in zip(args, CALLS[name]) if arg[0] != "*"]
+    return function(*places, **{arg[1:]: worth for arg, worth in zip(args, CALLS[name]) if arg[0] == "*"})
 
 
 class Interface(unittest.TestCase):
 
     def test_defined_in_their_files(self):
-        for module, told in FUNCTIONS.items():
-            rows = ast.parse(pathlib.Path(module.__file__).read_text()).body
-            defined = {row.name for row in rows if isinstance(row, ast.FunctionDef)}
-            self.assertEqual(set(told) - defined, set())
+        for told, kind in [(FUNCTIONS, ast.FunctionDef), (CLASSES, ast.ClassDef)]:
+            for module, names in told.items():
+                rows = ast.parse(pathlib.Path(module.__file__).read_text()).body
+                defined = {row.name for row in rows if isinstance(row, kind)}
+                self.assertEqual(set(names) - defined, set())
+
+    def test_methods_are_defined_in_their_classes(self):
+        for module, told in CLASSES.items():
+            for name, methods in told.items():
+                for method, args in methods.items():
+                    with self.subTest((name, method)):
+                        parameters = inspect.signature(vars(getattr(module, name))[method]).parameters.values()
+                        self.assertEqual([parameter.name for parameter in parameters], ["self", *args.split()])
 
     def test_arguments(self):
         for function, name, args in functions():
             with self.subTest(name):
-                parameters = inspect.signature(function).parameters.values()
-                self.assertEqual([parameter.name for parameter in parameters], args)
-                self.assertTrue(all(parameter.kind == parameter.POSITIONAL_OR_KEYWORD for parameter in parameters))
+                for parameter, arg in zip(inspect.signature(function).parameters.values(), args, strict=True):
+                    alone = arg[0] == "*"
+                    self.assertEqual(parameter.name, arg.strip("*"))
+                    self.assertEqual(parameter.kind, parameter.KEYWORD_ONLY if alone else parameter.POSITIONAL_OR_KEYWORD)
+                    self.assertEqual(parameter.default, DEFAULTS[arg[1:]] if alone else parameter.empty)
+
+    def test_numbers(self):
+        self.assertEqual(reach.MOST_HEAPS, 2000)
 
     def test_handed_in_by_places_and_by_names(self):
         for function, name, args in functions():
             with self.subTest(name):
-                by_names = dict(reversed(list(zip(args, CALLS[name]))))
-                self.assertEqual(function(*CALLS[name]), function(**by_names))
+                by_names = dict(reversed(list(zip([arg.strip("*") for arg in args], CALLS[name]))))
+                self.assertEqual(call(function, name, args), function(**by_names))
 
 
 class Whole(unittest.TestCase):
 
     def test_what_is_handed_in_stays(self):
-        for function, name, _ in functions():
+        for function, name, args in functions():
             with self.subTest(name):
                 kept = copy.deepcopy(CALLS[name])
-                function(*CALLS[name])
+                call(function, name, args)
                 self.assertEqual(CALLS[name], kept)
 
     def test_what_is_told_is_the_askers_own(self):
-        for function, name, _ in functions():
+        for function, name, args in functions():
             with self.subTest(name):
-                first = function(*CALLS[name])
+                first = call(function, name, args)
                 kept = copy.deepcopy(first)
-                if isinstance(first, (list, dict, tuple)):
-                    changed(first)
-                self.assertEqual(function(*CALLS[name]), kept)
-                self.assertEqual(function(*CALLS[name]), kept)
+                changed(first)
+                self.assertEqual(call(function, name, args), kept)
+                self.assertEqual(call(function, name, args), kept)
+
+    def test_what_is_done_behind_a_call_changes_nothing(self):
+        told = reach.way(DOOR, (1, 0, 0, 1))
+        row = ["lose"]
+        paper = ("row", row)
+        self.assertIsNone(reach.way_wrong(DOOR, (1, 0, 0, 1), paper))
+        row.append("lose")
+        self.assertEqual(reach.way(DOOR, (1, 0, 0, 1)), told)
 
     def test_refused_changes_nothing(self):
         row = ["begin", "end", "end"]
@@ -99,7 +138,7 @@ class Whole(unittest.TestCase):
             for thing, wrong in NO_NETS:
                 with self.subTest((name, thing)):
                     with self.assertRaises(errors.NoNet) as caught:
-                        function(thing, *[None] * (len(args) - 1))
+                        function(thing, *[None for arg in args[1:] if arg[0] != "*"])
                     self.assertEqual(caught.exception.wrong, wrong)
 
     def test_truths_are_no_whole_numbers(self):
@@ -110,6 +149,10 @@ class Whole(unittest.TestCase):
             firing.at_once(MILL, HEAP, (("begin", True),))
         with self.assertRaises(errors.NoNumber):
             firing.swapped(MILL, ROW, False)
+        self.assertEqual(reach.way_wrong(DOOR, HEAP, ("never", [(True, 1, 0, 0)])), ("paper",))
+        self.assertEqual(cover.covered_wrong(DOOR, HEAP, ("never", [(True, 1, 0, 0)])), ("paper",))
+        self.assertEqual(bounds.bound_wrong(WELL, "pail", ("most", True, [], [(None, None, None)])), ("paper",))
+        self.assertEqual(bounds.bound_wrong(WELL, "pail", ("most", 1, [], [(True, None, None)])), ("paper",))
 
 
 if __name__ == "__main__":

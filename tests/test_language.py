@@ -11,14 +11,15 @@ import tokenfold
 FOLDER = pathlib.Path(tokenfold.__file__).parent
 FILES = sorted(FOLDER.glob("**/*.py"))
 CALLED = """len range enumerate zip min max sum abs sorted reversed int str bool list tuple dict set isinstance ord repr any
-all divmod""".split()
+all divmod super""".split()
 ERRORS = """Exception ValueError TypeError KeyError IndexError LookupError ZeroDivisionError ArithmeticError OverflowError
 RuntimeError NotImplementedError NotImplemented""".split()
 METHODS = """append clear copy count endswith extend find get index insert isalnum isalpha isdigit islower isspace isupper
 items join keys ljust lower lstrip partition pop remove replace reverse rfind rjust rpartition rsplit rstrip setdefault
 split splitlines startswith strip update upper values zfill bit_length sort add discard""".split()
 BARRED = """type typing enum Enum Generic Protocol ABC namedtuple NamedTuple TypedDict TYPE_CHECKING abstractmethod
-register mro elements open input law version_info""".split()
+Flag IntFlag IntEnum StrEnum""".split()
+BARRED_NAMES = """register mro elements open input law version_info with_traceback add_note""".split()
 LIBRARY = {"heapq", "math", "itertools", "collections"}
 
 
@@ -59,6 +60,12 @@ class Files(unittest.TestCase):
         for path in FILES:
             for word in BARRED:
                 self.assertIsNone(re.search(rf"\b{word}\b", path.read_text()), (path, word))
+
+    def test_barred_names(self):
+        for path in FILES:
+            named = set(bound_names(path)) | {node.attr for node in nodes(path, ast.Attribute)}
+            named |= {node.arg for node in nodes(path, ast.keyword)}
+            self.assertEqual(named & set(BARRED_NAMES), set(), path)
 
 
 class Imports(unittest.TestCase):
@@ -126,6 +133,23 @@ class Statements(unittest.TestCase):
             self.assertEqual(nodes(path, *barred), [], path)
             for node in nodes(path, ast.FunctionDef):
                 self.assertEqual(node.decorator_list, [], node.name)
+
+    def test_no_generators(self):
+        """Where a class has __eq__, all, any, sum and the like take lists."""
+        for path in FILES:
+            self.assertEqual(nodes(path, ast.GeneratorExp, ast.Yield, ast.YieldFrom), [], path)
+
+    def test_handlers_name_own_errors(self):
+        own = {node.name for node in nodes(FOLDER / "errors.py", ast.ClassDef)}
+        for path in FILES:
+            for node in nodes(path, ast.ExceptHandler):
+                self.assertIsInstance(node.type, ast.Name)
+                self.assertIn(node.type.id, own)
+
+    def test_lists_are_sorted_anew(self):
+        """Where a class has __eq__ or __len__, no list is sorted by its method."""
+        for path in FILES:
+            self.assertNotIn("sort", {node.attr for node in nodes(path, ast.Attribute)}, path)
 
     def test_constants(self):
         for path in FILES:

@@ -7,6 +7,11 @@ from tokenfold.nets import check_net, is_tuple_of, is_whole, numbers_of
 def heap_wrong(net, thing):
     """None where it is a heap of the net, else the first of what isn't so."""
     check_net(net)
+    return heap_flaw(net, thing)
+
+
+def heap_flaw(net, thing):
+    """What heap_wrong tells, of what is known to be a net."""
     if not is_tuple_of(thing, len(net[0])):
         return ("heap",)
     for k, count in enumerate(thing):
@@ -48,9 +53,12 @@ def wires_of(net):
 
 
 def lacking(heap, taken):
-    """The number of the first place at which the heap has less than is taken; None where it has enough."""
+    """The number of the first place at which the heap has less than is taken; None where it has enough.
+
+    The None of a wide heap, here and in what rests on this, is always enough, and stays None.
+    """
     for at, count in taken:
-        if heap[at] < count:
+        if heap[at] is not None and heap[at] < count:
             return at
     return None
 
@@ -59,10 +67,20 @@ def moved(heap, taken, given):
     """The heap with what is taken less, and what is given more."""
     counts = list(heap)
     for at, count in taken:
-        counts[at] -= count
+        if counts[at] is not None:
+            counts[at] -= count
     for at, count in given:
-        counts[at] += count
+        if counts[at] is not None:
+            counts[at] += count
     return tuple(counts)
+
+
+def is_over(heap, other):
+    """Whether the heap has at each place not less than the other one."""
+    for many, few in zip(heap, other):
+        if many is not None and (few is None or many < few):
+            return False
+    return True
 
 
 def step(net, heap, wire, at):
@@ -105,6 +123,11 @@ def words(net, row):
     """The labels of the row's firings, without those of silent ones."""
     check_net(net)
     check_row(net, row)
+    return labels_along(net, row)
+
+
+def labels_along(net, row):
+    """What words tells, of what is known to be a row of the net's firings."""
     labels = {firing[0]: firing[1] for firing in net[1]}
     return [labels[name] for name in row if labels[name] != ""]
 

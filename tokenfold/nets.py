@@ -1,6 +1,6 @@
 """What is a net."""
 
-from tokenfold.errors import NoNet
+from tokenfold.errors import NoNet, NoPlace
 
 LETTERS = "abcdefghijklmnopqrstuvwxyz"
 FIGURES = "0123456789"
@@ -109,3 +109,11 @@ def check_net(net):
     wrong = net_wrong(net)
     if wrong is not None:
         raise NoNet(wrong)
+
+
+def check_places(net, names):
+    """Refuses the first name that no place of the net has."""
+    numbers = numbers_of(net[0])
+    for name in names:
+        if not isinstance(name, str) or name not in numbers:
+            raise NoPlace(name)
