@@ -107,6 +107,13 @@ def is_deeply_fresh(tell):
     return tell() == kept
 
 
+def ring(places, tokens):
+    """A net whose tokens go round: it has as many heaps as ways to lay them on the places."""
+    told = tuple([(f"p{k}", tokens if k == 0 else 0) for k in range(places)])
+    fires = [(f"t{k}", "", ((f"p{k}", 1),), ((f"p{(k + 1) % places}", 1),)) for k in range(places)]
+    return (told, tuple(fires))
+
+
 def net_by_chance(chance, places=4, firings=5, start=3, count=2, parts=2):
     """A net of so many places and firings at most, with starts and counts from 0 and 1 to those."""
     told = tuple([(f"p{k}", chance.randrange(start + 1)) for k in range(chance.randrange(1, places + 1))])

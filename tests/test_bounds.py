@@ -1,7 +1,7 @@
 import random
 import unittest
 
-from samples import DOOR, MILL, NO_NETS, STRANGE, WELL, is_deeply_fresh, net_by_chance
+from samples import DOOR, MILL, NO_NETS, STRANGE, WELL, is_deeply_fresh, net_by_chance, ring
 from tokenfold.bounds import bound, bound_wrong, endless, stair_end, widest
 from tokenfold.cover import covered
 from tokenfold.errors import NoNet, NoPlace, NoStair, TooGreat
@@ -118,9 +118,7 @@ class Widest(unittest.TestCase):
         self.assertEqual(widest(net), [(None, None)])
 
     def test_a_net_of_many_heaps(self):
-        places = tuple([(f"p{k}", 20 if k == 0 else 0) for k in range(4)])
-        fires = tuple([(f"t{k}", "", ((f"p{k}", 1),), ((f"p{(k + 1) % 4}", 1),)) for k in range(4)])
-        net = (places, fires)
+        net = ring(4, 20)
         self.assertEqual(widest(net), sorted(reach(net)[0]))
         told = bound(net, "p2")
         self.assertEqual(told[:2], ("most", 20))

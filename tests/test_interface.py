@@ -7,7 +7,7 @@ import pathlib
 import unittest
 
 from samples import DOOR, MILL, MILL_TEXT, NO_NETS, WELL, changed
-from tokenfold import bounds, cover, errors, firing, nets, plays, reach, texts
+from tokenfold import bounds, cover, errors, firing, lives, nets, plays, reach, siphons, soundness, sums, texts
 
 # Of each function its arguments' names; those behind a * are handed in by their names alone.
 FUNCTIONS = {
@@ -27,6 +27,19 @@ FUNCTIONS = {
         "widest": "net *most", "endless": "net *most", "bound": "net place *most", "bound_wrong": "net place thing",
         "stair_end": "net stair",
     },
+    sums: {
+        "sum_wrong": "net thing", "loop_wrong": "net thing", "worth": "net weights heap", "sums": "net", "loops": "net",
+        "least_sums": "net *most", "least_loops": "net *most", "made": "net weights", "made_of_loops": "net times",
+    },
+    siphons: {
+        "is_siphon": "net places", "is_trap": "net places", "siphon_in": "net places", "trap_in": "net places",
+        "siphons": "net", "trapped": "net", "trapped_wrong": "net thing",
+    },
+    soundness: {"sound": "net source sink *most", "sound_wrong": "net source sink paper"},
+    lives: {
+        "life": "net name *most", "life_wrong": "net name paper", "home": "net heap *most", "home_wrong": "net heap paper",
+        "homes": "net *most",
+    },
 }
 CLASSES = {
     plays: {"Play": {"__init__": "net", "fire": "name", "heap": "", "trail": "", "words": "", "back": "", "copy": "",
@@ -36,6 +49,7 @@ DEFAULTS = {"most": 2000}
 HEAP = (3, 2, 0, 0)
 ROW = ["begin", "begin", "end"]
 STAIR = [(["draw"], ["pour", "draw"]), (["pour"], [])]
+DOOR_END = (1, 0, 0, 1)
 CALLS = {
     "net_wrong": [MILL], "read_net": [MILL_TEXT], "printed": [MILL], "rows_of": [MILL_TEXT],
     "heap_wrong": [MILL, HEAP], "start_heap": [MILL], "fired": [MILL, HEAP, "begin"], "gone": [MILL, HEAP, ROW],
@@ -45,6 +59,14 @@ CALLS = {
     "way_wrong": [DOOR, (2, 0, 0, 0), ("never", [(1, 1, 0, 0), (0, 0, 1, 0), (1, 0, 0, 1)])],
     "covered": [DOOR, (2, 0, 0, 0), 50], "covered_wrong": [WELL, (2, 0, 0), ("never", [(2, 0, 0), (1, 1, 0), (0, 2, 0)])],
     "widest": [WELL, 50], "endless": [WELL, 50], "bound": [WELL, "pail", 50], "stair_end": [WELL, STAIR],
+    "sum_wrong": [MILL, (0, 1, 1, 0)], "loop_wrong": [DOOR, (1, 1, 0)], "worth": [MILL, (0, 2, 2, 0), HEAP], "sums": [DOOR],
+    "loops": [DOOR], "least_sums": [DOOR, 9], "least_loops": [DOOR, 9], "made": [MILL, (0, -3, -3, 0)],
+    "made_of_loops": [DOOR, (4, 4, 0)], "is_siphon": [DOOR, ["room", "key", "key"]], "is_trap": [DOOR, ["room", "idle"]],
+    "siphon_in": [DOOR, ["room", "key", "idle"]], "trap_in": [DOOR, ["room", "key", "idle"]], "siphons": [DOOR],
+    "trapped": [MILL], "trapped_wrong": [MILL, ("holds", [(["idle", "busy"], ["busy", "idle"])])],
+    "sound": [DOOR, "key", "lost", 9], "sound_wrong": [DOOR, "room", "lost", ("stuck", ["leave"], [(1, 1, 0, 0)])],
+    "life": [DOOR, "lose", 9], "life_wrong": [DOOR, "lose", ("some", [], ["lose"], [(1, 0, 0, 1)])], "home": [DOOR, DOOR_END, 9],
+    "home_wrong": [DOOR, (1, 1, 0, 0), ("away", ["lose"], [DOOR_END])], "homes": [DOOR, 9],
     "bound_wrong": [WELL, "pail", ("most", 1, [(["draw"], ["pour", "draw"]), (["pour"], [])], [(0, 1, None), (1, 0, None)])],
 }
 
@@ -153,6 +175,9 @@ class Whole(unittest.TestCase):
         self.assertEqual(cover.covered_wrong(DOOR, HEAP, ("never", [(True, 1, 0, 0)])), ("paper",))
         self.assertEqual(bounds.bound_wrong(WELL, "pail", ("most", True, [], [(None, None, None)])), ("paper",))
         self.assertEqual(bounds.bound_wrong(WELL, "pail", ("most", 1, [], [(True, None, None)])), ("paper",))
+        self.assertEqual(sums.sum_wrong(MILL, (False, 1, 1, 0)), ("sum",))
+        self.assertEqual(sums.loop_wrong(DOOR, (1, True, 0)), ("loop",))
+        self.assertEqual(lives.home_wrong(DOOR, DOOR_END, ("home", [(DOOR_END, False)])), ("paper",))
 
 
 if __name__ == "__main__":

@@ -4,7 +4,8 @@ import itertools
 import random
 import unittest
 
-from samples import DOOR, DOOR_HEAPS, DOOR_STEPS, MILL, NO_NETS, STRANGE, WELL, changed, is_deeply_fresh, net_by_chance
+from samples import DOOR, DOOR_HEAPS, DOOR_STEPS, MILL, NO_NETS, STRANGE, WELL, changed, is_deeply_fresh
+from samples import net_by_chance, ring
 from tokenfold.errors import NoHeap, NoNet, TooGreat
 from tokenfold.firing import can, fired, gone, start_heap
 from tokenfold.reach import MOST_HEAPS, dead, reach, stirring, way, way_wrong
@@ -14,13 +15,6 @@ NEVER = (1, 1, 0, 1)
 # From the start two firings lead to one heap, and by more than one row to the last.
 FORK = read_net(["place a 2", "place b 0", "place c 0", "fire y : a -> c", "fire x : a -> b", "fire z : b -> c",
                  "fire w : a -> b"])
-
-
-def ring(places, tokens):
-    """A net whose tokens go round: it has as many heaps as ways to lay them on the places."""
-    told = tuple([(f"p{k}", tokens if k == 0 else 0) for k in range(places)])
-    fires = [(f"t{k}", "", ((f"p{k}", 1),), ((f"p{(k + 1) % places}", 1),)) for k in range(places)]
-    return (told, tuple(fires))
 
 
 def of_most(ask, most):

@@ -3,7 +3,7 @@
 from tokenfold.errors import NoStair, Stuck, TooGreat
 from tokenfold.firing import is_over, lacking, led_by, moved, start_heap, wires_of
 from tokenfold.nets import check_net, check_places, is_tuple_of, is_whole, numbers_of
-from tokenfold.papers import is_names, is_paper
+from tokenfold.papers import is_pairs, is_paper
 from tokenfold.reach import MOST_HEAPS
 from tokenfold.search import Search, searched
 
@@ -138,12 +138,12 @@ def bound_wrong(net, place, thing):
     check_net(net)
     check_places(net, [place])
     at = numbers_of(net[0])[place]
-    if is_paper(thing, "more", 2) and is_stair(net, thing[1]):
+    if is_paper(thing, "more", 2) and is_pairs(thing[1], net[1]):
         return stair_wrong(net, thing[1], at, None)
     if not is_paper(thing, "most", 4) or not is_count(thing[1]):
         return ("paper",)
     _, greatest, stair, wides = thing
-    if not is_stair(net, stair) or not is_wides(net, wides):
+    if not is_pairs(stair, net[1]) or not is_wides(net, wides):
         return ("paper",)
     wrong = stair_wrong(net, stair, at, greatest)
     if wrong is None:
@@ -190,7 +190,7 @@ def most_wrong(wides, at, greatest):
 def stair_end(net, stair):
     """The wide heap at the stair's end."""
     check_net(net)
-    if not is_stair(net, stair):
+    if not is_pairs(stair, net[1]):
         raise NoStair(("paper",))
     return climbed(net, stair)
 
@@ -208,16 +208,6 @@ def is_wides(net, thing):
 def is_wide(net, thing):
     """Whether it is a wide heap of the net."""
     return is_tuple_of(thing, len(net[0])) and all([count is None or is_count(count) for count in thing])
-
-
-def is_stair(net, thing):
-    """Whether it is by form a stair: whether it can be gone by isn't looked at."""
-    return isinstance(thing, list) and all([is_stage(net, stage) for stage in thing])
-
-
-def is_stage(net, thing):
-    """Whether it is a tuple of a row and a loop."""
-    return is_tuple_of(thing, 2) and is_names(thing[0], net[1]) and is_names(thing[1], net[1])
 
 
 def climbed(net, stair):

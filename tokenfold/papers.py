@@ -16,6 +16,13 @@ def is_names(thing, named):
     return isinstance(thing, list) and all([isinstance(name, str) and name in numbers for name in thing])
 
 
+def is_pairs(thing, named):
+    """Whether it is a list of tuples of two lists of names of these places, or firings."""
+    if not isinstance(thing, list) or not all([is_tuple_of(pair, 2) for pair in thing]):
+        return False
+    return all([is_names(one, named) and is_names(other, named) for one, other in thing])
+
+
 def is_heaps(net, thing):
     """Whether it is a list of heaps of the net."""
     return isinstance(thing, list) and all([heap_flaw(net, heap) is None for heap in thing])
