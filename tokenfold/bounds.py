@@ -37,8 +37,9 @@ class Growth(Search):
     def __init__(self, net, most):
         self.weights = []
         self.loops = {}
-        # Where the heaps have an end none gets None, and looking for it along each way would take long.
-        self.widens = not has_an_end(net, most)
+        # Where the heaps have an end none gets None, and looking for it along each way would take long. That they have
+        # none shows late: so it isn't asked of more heaps than are quickly gone through.
+        self.widens = not has_an_end(net, min(most, MOST_HEAPS))
         Search.__init__(self, net, start_heap(net), most)
         self.run(lambda number: False)
 
