@@ -1,4 +1,5 @@
 import random
+import time
 import unittest
 
 from samples import DOOR, MILL, NO_NETS, STRANGE, WELL, is_deeply_fresh, net_by_chance, ring
@@ -123,6 +124,37 @@ class Widest(unittest.TestCase):
         told = bound(net, "p2")
         self.assertEqual(told[:2], ("most", 20))
         self.assertIsNone(bound_wrong(net, "p2", told))
+
+
+    def test_an_end_that_shows_late(self):
+        # First many heaps without None, then a well: of the first heaps alone it can't be told that there is no end.
+        places = (("a", 60), ("b", 0), ("w", 0))
+        first = ("t", "", (("a", 1),), (("b", 1),))
+        well = ("u", "", (("b", 60),), (("b", 60), ("w", 1)))
+        self.assertEqual(widest((places, (first,))), [(k, 60 - k, 0) for k in range(61)])
+        net = (places, (first, well))
+        self.assertEqual(widest(net), [(0, 60, None)] + [(k, 60 - k, 0) for k in range(1, 61)])
+        self.assertEqual(endless(net), ["w"])
+        self.assertEqual(great(lambda: widest(net, most=60)), 60)
+        for place, told in [("a", ("most", 60)), ("b", ("most", 60)), ("w", ("more",))]:
+            paper = bound(net, place)
+            self.assertEqual(paper[:len(told)], told)
+            self.assertIsNone(bound_wrong(net, place, paper))
+
+    def test_an_end_that_shows_early(self):
+        # One of the first heaps has None, and many follow.
+        net = ((("a", 60), ("b", 0), ("w", 0)), (("u", "", (), (("w", 1),)), ("t", "", (("a", 1),), (("b", 1),))))
+        self.assertEqual(widest(net), [(k, 60 - k, None) for k in range(61)])
+        self.assertEqual(endless(net), ["w"])
+        self.assertIsNone(bound_wrong(net, "b", bound(net, "b")))
+        self.assertIsNone(great(lambda: widest(net, most=2 * 61)))
+
+    def test_small_nets_at_once(self):
+        for net in [WELL, MILL, DOOR]:
+            begin = time.perf_counter()
+            for _ in range(100):
+                widest(net)
+            self.assertLess(time.perf_counter() - begin, 0.2)
 
 
 class Great(unittest.TestCase):

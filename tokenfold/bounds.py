@@ -5,11 +5,15 @@ from tokenfold.firing import is_over, lacking, led_by, moved, start_heap, wires_
 from tokenfold.nets import check_net, check_places, is_tuple_of, is_whole, numbers_of
 from tokenfold.papers import is_pairs, is_paper
 from tokenfold.reach import MOST_HEAPS
-from tokenfold.search import Search, searched
+from tokenfold.search import Search
+
+FEW_HEAPS = 32
 
 
 def weight(heap):
     """How many None the wide heap has, and the sum of its counts: of two, the one over the other has the greater."""
+    if None not in heap:
+        return (0, sum(heap))
     counts = [count for count in heap if count is not None]
     return (len(heap) - len(counts), sum(counts))
 
@@ -17,15 +21,6 @@ def weight(heap):
 def widened(heap, other):
     """The heap with None where it has more than the other one, over which it is."""
     return tuple([many if many == few else None for many, few in zip(heap, other)])
-
-
-def has_an_end(net, most):
-    """Whether rows lead to at most so many heaps in all."""
-    try:
-        searched(net, start_heap(net), most)
-    except TooGreat:
-        return False
-    return True
 
 
 class Growth(Search):
@@ -37,11 +32,32 @@ class Growth(Search):
     def __init__(self, net, most):
         self.weights = []
         self.loops = {}
-        # Where the heaps have an end none gets None, and looking for it along each way would take long. That they have
-        # none shows late: so it isn't asked of more heaps than are quickly gone through.
-        self.widens = not has_an_end(net, min(most, MOST_HEAPS))
         Search.__init__(self, net, start_heap(net), most)
+        self.go_through(FEW_HEAPS)
+        # Where the heaps have an end none gets None, and looking for it along each way would take long. That they have
+        # none shows late: so it isn't asked of more heaps than are quickly gone through, nor where one has None.
+        if not self.is_done() and not self.has_none():
+            self.take_to_the_end(net, min(most, MOST_HEAPS))
         self.run(lambda number: False)
+
+    def go_through(self, many):
+        """Goes through the heaps till so many are gone through, or all."""
+        while len(self.steps) < many and not self.is_done():
+            self.go_on(lambda number: False)
+
+    def has_none(self):
+        """Whether a heap that was found has None somewhere."""
+        return any([None in heap for heap in self.heaps])
+
+    def take_to_the_end(self, net, most):
+        """Where the heaps, none of which has None yet, have an end among the first most, goes on to it."""
+        search = Search(net, start_heap(net), most)
+        search.take_over(self)
+        try:
+            search.run(lambda number: False)
+        except TooGreat:
+            return
+        self.take_over(search)
 
     def put(self, heap, origin):
         """Puts a new heap behind the others, with its weight."""
@@ -64,7 +80,7 @@ class Growth(Search):
     def loop_of(self, heap, number):
         """The first one, back from that one, by which the heap behind it gets None; None where there is none."""
         own = weight(heap)
-        while self.widens and number is not None:
+        while number is not None:
             other = self.heaps[number]
             # Most are told apart by the weights, which is quick.
             if self.weights[number] < own and is_over(heap, other) and widened(heap, other) != heap:
@@ -117,8 +133,9 @@ def widest(net, *, most=MOST_HEAPS):
 
 def endless(net, *, most=MOST_HEAPS):
     """The names of the places of which no count is the greatest, in order."""
-    wides = widest(net, most=most)
-    return [name for k, (name, _) in enumerate(net[0]) if None in [wide[k] for wide in wides]]
+    check_net(net)
+    heaps = Growth(net, most).heaps
+    return [name for k, (name, _) in enumerate(net[0]) if None in [heap[k] for heap in heaps]]
 
 
 def bound(net, place, *, most=MOST_HEAPS):

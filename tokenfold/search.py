@@ -36,21 +36,38 @@ class Search:
         """Goes on to the first number at which ends is so, and tells it; None where all heaps are gone through."""
         if ends(0):
             return 0
-        while len(self.steps) < len(self.heaps):
-            at = len(self.steps)
-            leads = []
-            self.steps.append(leads)
-            for name, (taken, given) in self.wires.items():
-                if lacking(self.heaps[at], taken) is not None:
-                    continue
-                behind = self.led(at, taken, given)
-                is_new = behind not in self.numbers
-                if is_new:
-                    self.put(behind, (at, name))
-                leads.append((name, self.numbers[behind]))
-                if is_new and ends(self.numbers[behind]):
-                    return self.numbers[behind]
+        number = None
+        while number is None and not self.is_done():
+            number = self.go_on(ends)
+        return number
+
+    def is_done(self):
+        """Whether all heaps that were found are gone through."""
+        return len(self.steps) == len(self.heaps)
+
+    def go_on(self, ends):
+        """Goes through the next heap, to the first new number at which ends is so, and tells it; None without one."""
+        at = len(self.steps)
+        leads = []
+        self.steps.append(leads)
+        for name, (taken, given) in self.wires.items():
+            if lacking(self.heaps[at], taken) is not None:
+                continue
+            behind = self.led(at, taken, given)
+            is_new = behind not in self.numbers
+            if is_new:
+                self.put(behind, (at, name))
+            leads.append((name, self.numbers[behind]))
+            if is_new and ends(self.numbers[behind]):
+                return self.numbers[behind]
         return None
+
+    def take_over(self, other):
+        """Stands as the other one, which goes on by itself."""
+        self.heaps = list(other.heaps)
+        self.origins = list(other.origins)
+        self.steps = list(other.steps)
+        self.numbers = {heap: number for number, heap in enumerate(other.heaps)}
 
     def ahead_of(self, number):
         """The number of the heap ahead on the way by which that one was come to first; None of the begin."""
