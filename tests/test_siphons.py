@@ -1,5 +1,6 @@
 import itertools
 import random
+import time
 import unittest
 
 from samples import DOOR, MILL, NO_NETS, STRANGE, WELL, is_deeply_fresh, is_fresh, net_by_chance
@@ -27,6 +28,29 @@ def sets_of(names):
 
 def names_of(net):
     return [name for name, _ in net[0]]
+
+
+def least_siphons(net):
+    """All siphons that are looked for, by looking at all sets one by one."""
+    names = names_of(net)
+    kept = []
+    for lot in sets_of(range(len(names))):
+        if lot and holds(net, [names[k] for k in lot], 3, 2) and not any(set(other) <= set(lot) for other in kept):
+            kept.append(lot)
+    return [[names[k] for k in lot] for lot in sorted(kept)]
+
+
+def drawn(chance, places, firings):
+    """A net of just so many places and firings, that take and give here and there."""
+    names = [f"p{k}" for k in range(places)]
+    fires = []
+    for k in range(firings):
+        sides = []
+        for _ in range(2):
+            many = min(places, chance.randrange(4))
+            sides.append(tuple([(names[at], 1) for at in sorted(chance.sample(range(places), many))]))
+        fires.append((f"t{k}", "", *sides))
+    return (tuple([(name, chance.randrange(2)) for name in names]), tuple(fires))
 
 
 def wide(many):
@@ -167,6 +191,40 @@ class Siphons(unittest.TestCase):
             least = [lot for lot in kept if not any(other < lot for other in kept)]
             numbers = sorted([[k for k, name in enumerate(names) if name in lot] for lot in least])
             self.assertEqual(siphons(net), [[names[k] for k in lot] for lot in numbers])
+
+    def test_against_all_sets_of_up_to_seven_places(self):
+        chance = random.Random(7)
+        for many in list(range(1, 8)) * 8:
+            net = drawn(chance, many, chance.randrange(0, 9))
+            self.assertEqual(siphons(net), least_siphons(net))
+
+    def test_against_all_sets_of_eleven_and_twelve_places(self):
+        chance = random.Random(12)
+        for many, firings in [(11, 4), (11, 9), (12, 3), (12, 8), (12, 12)]:
+            net = drawn(chance, many, firings)
+            self.assertEqual(siphons(net), least_siphons(net))
+            self.assertIsNone(trapped_wrong(net, trapped(net)))
+
+    def test_the_ring_of_twelve(self):
+        names = [f"p{k}" for k in range(12)]
+        for at in range(12):
+            fires = [(f"t{k}", "", ((names[k], 1),), ((names[(k + 1) % 12], 1),)) for k in range(12)]
+            net = (tuple([(name, int(k == at)) for k, name in enumerate(names)]), tuple(fires))
+            self.assertEqual(siphons(net), [names])
+            self.assertEqual(trapped(net), ("holds", [(names, names)]))
+            self.assertIsNone(trapped_wrong(net, ("holds", [(names, names)])))
+
+    def test_twelve_places_at_once(self):
+        # Six rings of two places.
+        fires = [(f"t{k}", "", ((f"p{k}", 1),), ((f"p{k + 6}", 1),)) for k in range(6)]
+        fires += [(f"u{k}", "", ((f"p{k + 6}", 1),), ((f"p{k}", 1),)) for k in range(6)]
+        net = (tuple([(f"p{k}", 1) for k in range(12)]), tuple(fires))
+        told = trapped(net)
+        for ask in [siphons, trapped, lambda net: trapped_wrong(net, told)]:
+            begin = time.perf_counter()
+            for _ in range(100):
+                ask(net)
+            self.assertLess(time.perf_counter() - begin, 0.3)
 
     def test_told_lists_are_new(self):
         for net in [DOOR, LOST, wide(3)]:
