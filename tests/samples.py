@@ -125,3 +125,19 @@ def net_by_chance(chance, places=4, firings=5, start=3, count=2, parts=2):
             sides.append(tuple([(told[at][0], chance.randrange(1, count + 1)) for at in numbers]))
         fires.append((f"t{k}", "", *sides))
     return (told, tuple(fires))
+
+
+def machines(chance, many=3, states=3, firings=6):
+    """A plain net: machines, each with one token on one of its places, and firings that move those of some of them."""
+    sizes = [chance.randrange(2, states + 1) for _ in range(chance.randrange(1, many + 1))]
+    stands = [(machine, state) for machine, size in enumerate(sizes) for state in range(size)]
+    chance.shuffle(stands)
+    places = tuple([(f"p{machine}{state}", int(state == 0)) for machine, state in stands])
+    fires = []
+    for k in range(chance.randrange(2, firings + 1)):
+        moved = chance.sample(range(len(sizes)), min(len(sizes), chance.choice([1, 1, 1, 2, 2, 3])))
+        takes = sorted([stands.index((machine, chance.randrange(sizes[machine]))) for machine in moved])
+        gives = sorted([stands.index((machine, chance.randrange(sizes[machine]))) for machine in moved
+                        if chance.random() < 0.9])
+        fires.append((f"t{k}", "", *[tuple([(places[at][0], 1) for at in side]) for side in (takes, gives)]))
+    return (places, tuple(fires))

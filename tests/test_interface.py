@@ -7,7 +7,8 @@ import pathlib
 import unittest
 
 from samples import DOOR, MILL, MILL_TEXT, NO_NETS, WELL, changed
-from tokenfold import bounds, cover, errors, firing, lives, nets, plays, reach, siphons, soundness, sums, texts
+from tokenfold import (bounds, cover, cuts, errors, firing, lives, nets, plays, reach, reductions, siphons, soundness, sums, tables,
+                       texts, unfolding)
 
 # Of each function its arguments' names; those behind a * are handed in by their names alone.
 FUNCTIONS = {
@@ -40,16 +41,33 @@ FUNCTIONS = {
         "life": "net name *most", "life_wrong": "net name paper", "home": "net heap *most", "home_wrong": "net heap paper",
         "homes": "net *most",
     },
+    unfolding: {
+        "plain_row": "net *most", "unfold": "net *most", "heap_of": "net unfolding events", "row_of": "net unfolding events",
+    },
+    cuts: {"events_of": "net unfolding heap", "dead_cuts": "net unfolding", "unfolding_wrong": "net thing"},
+    reductions: {
+        "turn_wrong": "net turn", "turned": "net turn", "heap_led": "net turn heap", "heap_back": "net turn heap",
+        "row_led": "net turn row", "row_back": "net turn row", "reduced": "net", "heap_led_by": "net turns heap",
+        "heap_back_by": "net turns heap", "row_led_by": "net turns row", "row_back_by": "net turns row",
+    },
+    tables: {"table_wrong": "thing", "table_of": "net *most", "roads": "table", "rings": "table", "same": "one other"},
 }
 CLASSES = {
     plays: {"Play": {"__init__": "net", "fire": "name", "heap": "", "trail": "", "words": "", "back": "", "copy": "",
                      "net": "", "__eq__": "other", "__len__": ""}},
 }
 DEFAULTS = {"most": 2000}
+# Where a function's own is another one.
+OWN_DEFAULTS = {("unfold", "most"): 400}
 HEAP = (3, 2, 0, 0)
 ROW = ["begin", "begin", "end"]
 STAIR = [(["draw"], ["pour", "draw"]), (["pour"], [])]
 DOOR_END = (1, 0, 0, 1)
+DOOR_UNFOLDING = ([("idle", None), ("key", None), ("room", 0), ("lost", 1), ("idle", 2), ("key", 2)],
+                  [("enter", (0, 1), (2,), False), ("lose", (1,), (3,), False), ("leave", (2,), (4, 5), True)])
+DOOR_TABLE = (("enter", "leave", "lose"), 3, ((0, "enter", 1), (0, "lose", 2), (1, "leave", 0)))
+IDLE = ("implied", "idle", (("key", 1), ("lost", 1)), 0)
+TURNS = [IDLE, ("through", "leave")]
 CALLS = {
     "net_wrong": [MILL], "read_net": [MILL_TEXT], "printed": [MILL], "rows_of": [MILL_TEXT],
     "heap_wrong": [MILL, HEAP], "start_heap": [MILL], "fired": [MILL, HEAP, "begin"], "gone": [MILL, HEAP, ROW],
@@ -67,6 +85,13 @@ CALLS = {
     "sound": [DOOR, "key", "lost", 9], "sound_wrong": [DOOR, "room", "lost", ("stuck", ["leave"], [(1, 1, 0, 0)])],
     "life": [DOOR, "lose", 9], "life_wrong": [DOOR, "lose", ("some", [], ["lose"], [(1, 0, 0, 1)])], "home": [DOOR, DOOR_END, 9],
     "home_wrong": [DOOR, (1, 1, 0, 0), ("away", ["lose"], [DOOR_END])], "homes": [DOOR, 9],
+    "plain_row": [DOOR, 9], "unfold": [DOOR, 9], "heap_of": [DOOR, DOOR_UNFOLDING, [2, 0]], "row_of": [DOOR, DOOR_UNFOLDING, [2, 0]],
+    "events_of": [DOOR, DOOR_UNFOLDING, DOOR_END], "dead_cuts": [DOOR, DOOR_UNFOLDING], "unfolding_wrong": [DOOR, DOOR_UNFOLDING],
+    "turn_wrong": [DOOR, IDLE], "turned": [DOOR, IDLE], "heap_led": [DOOR, IDLE, DOOR_END], "heap_back": [DOOR, IDLE, (1, 1, 1)],
+    "row_led": [DOOR, IDLE, ["lose"]], "row_back": [DOOR, IDLE, ["lose"]], "reduced": [DOOR],
+    "heap_led_by": [DOOR, TURNS, DOOR_END], "heap_back_by": [DOOR, TURNS, (1, 1)], "row_led_by": [DOOR, TURNS, ["leave", "lose"]],
+    "row_back_by": [DOOR, TURNS, ["enter", "lose"]], "table_wrong": [DOOR_TABLE], "table_of": [DOOR, 9], "roads": [DOOR_TABLE],
+    "rings": [DOOR_TABLE], "same": [DOOR_TABLE, ((), 1, ())],
     "bound_wrong": [WELL, "pail", ("most", 1, [(["draw"], ["pour", "draw"]), (["pour"], [])], [(0, 1, None), (1, 0, None)])],
 }
 
@@ -75,6 +100,11 @@ def functions():
     """All functions of the interface, each with its name and its arguments' names."""
     return [(getattr(module, name), name, args.split()) for module, told in FUNCTIONS.items()
             for name, args in told.items()]
+
+
+def default_of(name, arg):
+    """What stands for that argument of that function where it isn't handed in."""
+    return OWN_DEFAULTS.get((name, arg), DEFAULTS[arg])
 
 
 def call(function, name, args):
@@ -107,10 +137,11 @@ class Interface(unittest.TestCase):
                     alone = arg[0] == "*"
                     self.assertEqual(parameter.name, arg.strip("*"))
                     self.assertEqual(parameter.kind, parameter.KEYWORD_ONLY if alone else parameter.POSITIONAL_OR_KEYWORD)
-                    self.assertEqual(parameter.default, DEFAULTS[arg[1:]] if alone else parameter.empty)
+                    self.assertEqual(parameter.default, default_of(name, arg[1:]) if alone else parameter.empty)
 
     def test_numbers(self):
         self.assertEqual(reach.MOST_HEAPS, 2000)
+        self.assertEqual(unfolding.MOST_EVENTS, 400)
 
     def test_handed_in_by_places_and_by_names(self):
         for function, name, args in functions():
@@ -178,6 +209,17 @@ class Whole(unittest.TestCase):
         self.assertEqual(sums.sum_wrong(MILL, (False, 1, 1, 0)), ("sum",))
         self.assertEqual(sums.loop_wrong(DOOR, (1, True, 0)), ("loop",))
         self.assertEqual(lives.home_wrong(DOOR, DOOR_END, ("home", [(DOOR_END, False)])), ("paper",))
+        with self.assertRaises(errors.NoEvents):
+            unfolding.heap_of(DOOR, DOOR_UNFOLDING, [False])
+        self.assertEqual(reductions.turn_wrong(DOOR, ("implied", "idle", (("key", True), ("lost", 1)), 0)), ("turn",))
+        self.assertEqual(reductions.turn_wrong(DOOR, (*IDLE[:3], False)), ("turn",))
+        self.assertEqual(tables.table_wrong((("a",), True, ())), ("form",))
+        self.assertEqual(tables.table_wrong((("a",), 2, ((0, "a", True),))), ("arc", 0))
+
+    def test_truths_are_told_where_the_document_says_so(self):
+        self.assertTrue(all(isinstance(event[3], bool) for event in unfolding.unfold(DOOR)[1]))
+        self.assertEqual(cuts.unfolding_wrong(DOOR, (DOOR_UNFOLDING[0], [(*event[:3], int(event[3]))
+                                                                         for event in DOOR_UNFOLDING[1]])), ("form",))
 
 
 if __name__ == "__main__":

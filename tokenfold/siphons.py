@@ -1,5 +1,6 @@
 """Siphons and traps: sets of places, each with a bit for its number."""
 
+from tokenfold.bits import bits_of, numbers_in
 from tokenfold.errors import TooGreat
 from tokenfold.nets import check_net, check_places, numbers_of
 from tokenfold.papers import is_names, is_pairs, is_paper
@@ -7,24 +8,6 @@ from tokenfold.papers import is_names, is_pairs, is_paper
 MOST_PLACES_TRIED = 12
 # Of so many places all sets are looked at at once: one number has a bit for each, and of more it would get too long.
 MOST_PLACES_AT_ONCE = 11
-
-
-def bits_of(numbers):
-    """The set of these numbers, each of which may stand there more than once."""
-    bits = 0
-    for number in numbers:
-        bits |= 1 << number
-    return bits
-
-
-def numbers_in(bits):
-    """The numbers of a set, rising."""
-    numbers = []
-    while bits > 0:
-        rest = bits & bits - 1
-        numbers.append((bits ^ rest).bit_length() - 1)
-        bits = rest
-    return numbers
 
 
 def names_in(net, bits):
