@@ -5,6 +5,7 @@ import unittest
 
 import slowly
 from samples import DOOR, MILL, NO_NETS, STRANGE, is_deeply_fresh, machines
+from tokenfold.branches import Branches
 from tokenfold.cuts import dead_cuts, events_of, unfolding_wrong
 from tokenfold.errors import NoHeap, NoNet, NotPlain, TooGreat
 from tokenfold.reach import dead, reach
@@ -237,6 +238,24 @@ class UnfoldingWrong(unittest.TestCase):
                 self.assertIsNone(wrong, order)
                 let_by += 1
         self.assertGreater(let_by, 5)
+
+    def test_what_pasts_are_in_the_order(self):
+        chance = random.Random(59)
+        for net in [SIDES] * 20 + [machines(chance) for _ in range(100)]:
+            unfolding = unfold(net)
+            if len(unfolding[1]) > 9:
+                continue
+            order, left = [], list(range(len(unfolding[1])))
+            while left:
+                ready = [k for k in left if slowly.past(unfolding, k) <= {k, *order}]
+                order.append(chance.choice(ready))
+                left.remove(order[-1])
+            unfolding = reordered(net, unfolding, order)
+            branches = Branches(net)
+            numbers = {firing[0]: k for k, firing in enumerate(net[1])}
+            for k, (name, takes, _, cut) in enumerate(unfolding[1]):
+                self.assertEqual(branches.rank_of(numbers[name], takes), slowly.rank(net, unfolding, slowly.past(unfolding, k)))
+                branches.put_event(numbers[name], takes, cut)
 
     def test_cut(self):
         for k in range(3):

@@ -58,6 +58,7 @@ NO_TURNS = [thing for thing in STRANGE if thing is not None] + [
     ("implied", "a", (("b", None),), 0), ("implied", "a", (["b", 1],), 0), ("implied", "a", (("b",),), 0),
     ("implied", "a", ("b", 1), 0), ("implied", "a", ((None, 1),), 0), ("implied", "a", (("b", 1, 1),), 0), ("fold", "t"),
     ("Twin", "t", "u"), (None, "t"), (["twin"], "t", "u"), ("turn", "t"), ("", "t"), ("implied", "a", (("b", "1"),), 0),
+    ("fold", "a", (), 0), ("through", "a", (), 0), ("twin", "a", (), 0),
 ]
 
 
@@ -289,6 +290,12 @@ class Led(unittest.TestCase):
             net = ((("post", start), *POST[0][1:]), POST[1])
             self.assertEqual(row_back(net, ("through", "send"), []), ["send"] * start)
 
+    def test_a_firing_called_as_the_place(self):
+        net = read_net(["place m 2", "place a 1", "fire m as x : m + a -> m + a", "fire a : a -> 0"])
+        turn = ("implied", "m", (), 2)
+        for ask in [row_led, row_back]:
+            self.assertEqual(ask(net, turn, ["m", "a", "m"]), ["m", "a", "m"])
+
     def test_no_heap(self):
         for (net, turn), many in zip(TURNS, [2, 2, 3, 2, 3]):
             for ask, size in [(heap_led, many), (heap_back, many - int(turn[0] in ("implied", "through")))]:
@@ -477,6 +484,18 @@ class By(unittest.TestCase):
         self.assertEqual(heap_back_by(DOOR, turns, (0, 1)), (1, 0, 0, 1))
         self.assertEqual(row_led_by(DOOR, turns, ["enter", "leave", "lose"]), ["enter", "lose"])
         self.assertEqual(row_back_by(DOOR, turns, ["enter", "lose"]), ["enter", "leave", "lose"])
+
+    def test_one_through_behind_the_other(self):
+        net = read_net(["place p 1", "place q 1", "place a 0", "fire first : p -> 2 q", "fire then : q -> a",
+                        "fire more as x : a -> 2 p + q"])
+        for turns, row in [([("through", "first"), ("through", "then")], ["first", "then", "then", "then"]),
+                           ([("through", "then"), ("through", "first")], ["then", "first", "then", "then"])]:
+            back = row_back_by(net, turns, [])
+            self.assertEqual(gone(net, start_heap(net), back), heap_back_by(net, turns, (3,)))
+            self.assertEqual(back, row)
+            self.assertEqual(row_led_by(net, turns, [*row, "more"]), ["more"])
+            back = row_back_by(net, turns, ["more"])
+            self.assertEqual(gone(net, start_heap(net), back), (0, 0, 7))
 
     def test_no_turn(self):
         turns = [("implied", "idle", (("key", 1), ("lost", 1)), 0), ("through", "leave")]
