@@ -7,8 +7,8 @@ import pathlib
 import unittest
 
 from samples import DOOR, MILL, MILL_TEXT, NO_NETS, WELL, changed
-from tokenfold import (bounds, cover, cuts, errors, firing, lives, nets, plays, reach, reductions, siphons, soundness, sums, tables,
-                       texts, unfolding)
+from tokenfold import (bounds, cover, cuts, errors, firing, leads, lives, logs, nets, plays, reach, reductions, regions, siphons,
+                       soundness, sums, tables, texts, unfolding, workshop)
 
 # Of each function its arguments' names; those behind a * are handed in by their names alone.
 FUNCTIONS = {
@@ -51,12 +51,21 @@ FUNCTIONS = {
         "heap_back_by": "net turns heap", "row_led_by": "net turns row", "row_back_by": "net turns row",
     },
     tables: {"table_wrong": "thing", "table_of": "net *most", "roads": "table", "rings": "table", "same": "one other"},
+    regions: {"region_wrong": "table region", "made_net": "table", "made_net_wrong": "table thing"},
+    logs: {
+        "laying_wrong": "net row thing *goal", "cost_of": "net laying *prices", "laid": "net row *goal *prices *most",
+        "paper_of": "net row *goal *prices *most", "laying_least": "net row told thing *goal *prices",
+        "laid_all": "net rows *prices *most", "fits": "net row *goal *most",
+    },
+    leads: {"led": "net other heap names"},
 }
 CLASSES = {
     plays: {"Play": {"__init__": "net", "fire": "name", "heap": "", "trail": "", "words": "", "back": "", "copy": "",
                      "net": "", "__eq__": "other", "__len__": ""}},
+    workshop: {"Workshop": {"__init__": "text", "start": "title", "fire": "title firing", "heap": "title", "trail": "title",
+                            "edit": "text *names", "stop": "title", "back": "", "text": "", "net": "", "titles": "", "log": ""}},
 }
-DEFAULTS = {"most": 2000}
+DEFAULTS = {"most": 2000, "goal": None, "prices": (1, 1), "names": None}
 # Where a function's own is another one.
 OWN_DEFAULTS = {("unfold", "most"): 400}
 HEAP = (3, 2, 0, 0)
@@ -68,6 +77,9 @@ DOOR_UNFOLDING = ([("idle", None), ("key", None), ("room", 0), ("lost", 1), ("id
 DOOR_TABLE = (("enter", "leave", "lose"), 3, ((0, "enter", 1), (0, "lose", 2), (1, "leave", 0)))
 IDLE = ("implied", "idle", (("key", 1), ("lost", 1)), 0)
 TURNS = [IDLE, ("through", "leave")]
+REGION = ((1, 0, 1), ((1, 0), (0, 1), (0, 0)))
+MADE = ((("a", 1),), (("enter", "enter", (("a", 1),), ()), ("leave", "leave", (), (("a", 1),)), ("lose", "lose", (), ())))
+LOUD = (DOOR[0], (("enter", "in", *DOOR[1][0][2:]), *DOOR[1][1:]))
 CALLS = {
     "net_wrong": [MILL], "read_net": [MILL_TEXT], "printed": [MILL], "rows_of": [MILL_TEXT],
     "heap_wrong": [MILL, HEAP], "start_heap": [MILL], "fired": [MILL, HEAP, "begin"], "gone": [MILL, HEAP, ROW],
@@ -92,6 +104,12 @@ CALLS = {
     "heap_led_by": [DOOR, TURNS, DOOR_END], "heap_back_by": [DOOR, TURNS, (1, 1)], "row_led_by": [DOOR, TURNS, ["leave", "lose"]],
     "row_back_by": [DOOR, TURNS, ["enter", "lose"]], "table_wrong": [DOOR_TABLE], "table_of": [DOOR, 9], "roads": [DOOR_TABLE],
     "rings": [DOOR_TABLE], "same": [DOOR_TABLE, ((), 1, ())],
+    "region_wrong": [DOOR_TABLE, REGION], "made_net": [DOOR_TABLE], "made_net_wrong": [DOOR_TABLE, ("net", MADE, [REGION])],
+    "laying_wrong": [LOUD, ["x"], (("log", "x"),), None], "cost_of": [LOUD, (("log", "x"), ("net", "lose")), (5, 2)],
+    "laid": [LOUD, ["x"], DOOR_END, (2, 3), 9], "paper_of": [LOUD, ["x"], DOOR_END, (2, 3), 9],
+    "laying_least": [LOUD, ["x"], (1, (("log", "x"),)), [((1, 1, 0, 0), 0, 0)], None, (1, 1)],
+    "laid_all": [LOUD, [["x"], ["oh", "in"]], (1, 9), 50], "fits": [LOUD, ["oh"], DOOR_END, 9],
+    "led": [DOOR, LOUD, DOOR_END, {"lost": "key"}],
     "bound_wrong": [WELL, "pail", ("most", 1, [(["draw"], ["pour", "draw"]), (["pour"], [])], [(0, 1, None), (1, 0, None)])],
 }
 
@@ -127,17 +145,22 @@ class Interface(unittest.TestCase):
             for name, methods in told.items():
                 for method, args in methods.items():
                     with self.subTest((name, method)):
-                        parameters = inspect.signature(vars(getattr(module, name))[method]).parameters.values()
-                        self.assertEqual([parameter.name for parameter in parameters], ["self", *args.split()])
+                        parameters = list(inspect.signature(vars(getattr(module, name))[method]).parameters.values())
+                        self.assertEqual(parameters[0].name, "self")
+                        self.compared(method, parameters[1:], args.split())
 
     def test_arguments(self):
         for function, name, args in functions():
             with self.subTest(name):
-                for parameter, arg in zip(inspect.signature(function).parameters.values(), args, strict=True):
-                    alone = arg[0] == "*"
-                    self.assertEqual(parameter.name, arg.strip("*"))
-                    self.assertEqual(parameter.kind, parameter.KEYWORD_ONLY if alone else parameter.POSITIONAL_OR_KEYWORD)
-                    self.assertEqual(parameter.default, default_of(name, arg[1:]) if alone else parameter.empty)
+                self.compared(name, inspect.signature(function).parameters.values(), args)
+
+    def compared(self, name, parameters, args):
+        """Sees that a function of that name has these arguments."""
+        for parameter, arg in zip(parameters, args, strict=True):
+            alone = arg[0] == "*"
+            self.assertEqual(parameter.name, arg.strip("*"))
+            self.assertEqual(parameter.kind, parameter.KEYWORD_ONLY if alone else parameter.POSITIONAL_OR_KEYWORD)
+            self.assertEqual(parameter.default, default_of(name, arg[1:]) if alone else parameter.empty)
 
     def test_numbers(self):
         self.assertEqual(reach.MOST_HEAPS, 2000)
@@ -215,6 +238,14 @@ class Whole(unittest.TestCase):
         self.assertEqual(reductions.turn_wrong(DOOR, (*IDLE[:3], False)), ("turn",))
         self.assertEqual(tables.table_wrong((("a",), True, ())), ("form",))
         self.assertEqual(tables.table_wrong((("a",), 2, ((0, "a", True),))), ("arc", 0))
+        self.assertEqual(regions.region_wrong(DOOR_TABLE, ((True, 0, 1), REGION[1])), ("form",))
+        self.assertEqual(logs.laying_least(LOUD, ["x"], (True, (("log", "x"),)), []), ("laying",))
+        with self.assertRaises(errors.NoPrices):
+            logs.laid(LOUD, ["x"], prices=(True, 1))
+        with self.assertRaises(errors.NoCount):
+            logs.laid(LOUD, ["x"], most=True)
+        with self.assertRaises(errors.NoTitle):
+            workshop.Workshop(MILL_TEXT).start(True)
 
     def test_truths_are_told_where_the_document_says_so(self):
         self.assertTrue(all(isinstance(event[3], bool) for event in unfolding.unfold(DOOR)[1]))

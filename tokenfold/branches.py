@@ -29,7 +29,7 @@ class Branches:
         # The number of the event of a firing that takes these conditions.
         self.numbers = {}
         marked = [at for at, (_, start) in enumerate(net[0]) if start > 0]
-        self.start = bits_of(marked)
+        self.begin = bits_of(marked)
         self.put_conditions(marked, None, 0, False)
 
     def put_conditions(self, places, maker, beside, is_cut):
@@ -89,7 +89,7 @@ class Branches:
 
     def heap_behind(self, firing, takes):
         """The places of the heap of that past, which has one token in each."""
-        heap = self.start
+        heap = self.begin
         for number in [*[self.firings[event] for event in numbers_in(self.past_of(takes))], firing]:
             taken, given = self.sides[number]
             heap = heap & ~bits_of(taken) | bits_of(given)

@@ -163,7 +163,7 @@ def cuts_wrong(branches, events):
         heap = branches.heap_behind(firing, takes)
         rank = branches.rank_of(firing, takes)
         ahead = ranks.setdefault(heap, [])
-        if is_cut and heap != branches.start and not any([other < rank for other in ahead]):
+        if is_cut and heap != branches.begin and not any([other < rank for other in ahead]):
             return ("cut", k)
         ahead.append(rank)
     return None

@@ -100,6 +100,11 @@ def counts_of(table):
 def rings(table):
     """Of each arc the count of the stand that it leads from, with its name, less that of the one that it leads to."""
     check_table(table)
+    return rings_of(table)
+
+
+def rings_of(table):
+    """What rings tells, of what is known to be a table."""
     counts = counts_of(table)
     told = []
     for stand, name, behind in table[2]:

@@ -51,7 +51,7 @@ class Growing(Branches):
         self.most = most
         self.queue = []
         # The heaps of the start and of the events' pasts.
-        self.known = {self.start: True}
+        self.known = {self.begin: True}
         self.want(list(range(len(self.places))))
 
     def want(self, fresh):
