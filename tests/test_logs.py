@@ -492,6 +492,9 @@ class All(unittest.TestCase):
     def test_no_rows(self):
         self.assertEqual(laid_all(INN, []), ([], ["come", "tea", "milk", "rest", "go"]))
         self.assertEqual(laid_all(INN, [], prices=None, most=None), ([], ["come", "tea", "milk", "rest", "go"]))
+        for thing, wrong in NO_NETS:
+            for rows in [[], None, [None]]:
+                self.assertEqual(raised(lambda: laid_all(thing, rows)), (NoNet, wrong))
         for rows in [None, (), (["in"],), "in", 0, True]:
             self.assertEqual(raised(lambda: laid_all(INN, rows, prices=None, most=None)), (NoRow,))
 

@@ -328,6 +328,8 @@ class MadeNetWrong(unittest.TestCase):
         loops = (("a", "b"), 3, ((0, "a", 1), (1, "a", 2), (2, "a", 0)))
         zero = ((0, 0, 0), ((0, 0), (1, 0)))
         self.assertEqual(self.wrong(self.made(loops, [zero]), loops), ("same", 0, 1))
+        ends = (("a", "b"), 3, ((0, "a", 1), (0, "b", 2)))
+        self.assertEqual(self.wrong(self.made(ends, [((1, 0, 0), ((1, 0), (1, 0)))]), ends), ("same", 1, 2))
         line = (("a",), 3, ((0, "a", 1), (1, "a", 2)))
         self.assertIsNone(self.wrong(self.made(line, [((2, 1, 0), ((1, 0),))]), line))
         self.assertEqual(self.wrong(self.made(line, [((3, 2, 1), ((1, 0),))]), line), ("same", 2))

@@ -92,8 +92,10 @@ class PlainRow(unittest.TestCase):
         self.assertEqual([great(lambda: plain_row(chain, most=most)) for most in range(6)], [0, 1, 2, 3, None, None])
         self.assertEqual(plain_row(chain, most=4), ["t", "u", "v"])
         self.assertEqual([great(lambda: plain_row(DOOR, most=most)) for most in range(5)], [0, 1, 2, None, None])
-        more = (chain[0], chain[1] + (("w", "", (("d", 1),), (("a", 1),)),))
-        self.assertEqual(great(lambda: plain_row(more, most=1)), 1)
+        more = (chain[0], chain[1] + (("w", "", (("c", 1), ("d", 1)), (("a", 1),)),))
+        self.assertEqual([great(lambda: plain_row(more, most=most)) for most in range(6)], [0, 1, 2, 3, None, None])
+        self.assertEqual(plain_row(more, most=4), ["t", "u", "v"])
+        self.assertGreater(len(reach(more)[0]), 4)
         # Where counts bar it, no heap is looked at.
         self.assertEqual(plain_row(MILL, most=0), [])
 

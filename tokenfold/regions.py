@@ -127,8 +127,7 @@ def made_net(table):
             return barred_paper(making, stand, name, shares)
         chosen.append((factors, making.told_apart(factors)))
         told |= chosen[-1][1]
-    kept = needed(chosen + last_regions(making, told), making.every)
-    regions = [making.region_of(factors) for factors, _ in kept]
+    regions = [making.region_of(factors) for factors, _ in needed(chosen, making.every)]
     return ("net", net_of(table, regions), regions)
 
 
@@ -138,7 +137,7 @@ def units(many):
 
 
 def likely_regions(making):
-    """Of the simplest regions those that tell most apart, each more than the ones ahead; with what they tell apart."""
+    """Of the simplest regions those that tell most apart, with what they do: all stands that any can, at least."""
     pool = [(factors, making.told_apart(factors)) for factors in units(len(making.basis))]
     chosen = []
     left = making.every
@@ -159,18 +158,6 @@ def best_of(pool, left):
         if many > most:
             best, most = (factors, bits), many
     return best
-
-
-def last_regions(making, told):
-    """Simple regions that tell those stands apart that aren't yet."""
-    found = []
-    for k, (one, other) in enumerate(making.pairs):
-        if told >> k & 1 == 0:
-            unlike = [number != less for number, less in zip(making.points[one], making.points[other])]
-            factors = [int(at == unlike.index(True)) for at in range(len(unlike))]
-            found.append((factors, making.told_apart(factors)))
-            told |= found[-1][1]
-    return found
 
 
 def needed(chosen, every):
@@ -285,7 +272,7 @@ def is_arc_paper(table, thing):
     if not is_paper(thing, "arc", 5):
         return False
     _, stand, name, shares, weights = thing
-    if not is_stand(stand, table[1]) or not isinstance(name, str) or name not in table[0]:
+    if not is_stand(stand, table[1]) or name not in table[0]:
         return False
     stands = stands_with(table, name)
     if stand in stands or not are_counts(shares, len(stands)) or not any(shares):
